@@ -6,7 +6,7 @@ import inspect
 import os
 import unittest
 
-from bothlots import checks, words
+from bothlots import chains, checks, hangs, papers, programs, rules, runs, tables, touches, words
 
 ROOT = os.path.dirname(os.path.dirname(os.path.abspath(__file__)))
 PACKAGE = os.path.join(ROOT, "bothlots")
@@ -19,6 +19,48 @@ FUNCTIONS = (
     (checks, "test_text", "(test)"),
     (checks, "read_test", "(text)"),
     (checks, "holds", "(test, row)"),
+    (rules, "settles", "(program, columns)"),
+    (rules, "signs", "(program)"),
+    (rules, "looks", "(program)"),
+    (rules, "reaches", "(program, look, at)"),
+    (rules, "last_looks", "(program)"),
+    (rules, "forced", "(program, look, other, columns)"),
+    (rules, "parts", "(program, columns)"),
+    (touches, "split", "(program, thing)"),
+    (chains, "starts", "(program)"),
+    (chains, "links", "(program, worth, state)"),
+    (chains, "crosses", "(program, state, lot)"),
+    (hangs, "leak", "(program, worth, lot)"),
+)
+
+# The classes of the interface by their files, with their parameters, and their methods and properties with theirs.
+CLASSES = (
+    (programs, "Program", "(main, steps, *, sides=(), unique=())", {
+        "read": "(text)", "text": "(self)", "main": None, "steps": None, "sides": None, "unique": None, "cut_at": None,
+        "many": None, "step": "(self, at)", "columns": "(self, at=None)", "columns_of": "(self, kind)",
+        "__contains__": "(self, column)", "__eq__": "(self, other)", "__len__": "(self)", "__repr__": "(self)"}),
+    (tables, "Tables", "(program, rows, sides=None)", {
+        "basis": None, "rows": "(self)", "side": "(self, name)", "with_rows": "(self, *rows)",
+        "with_row": "(self, row, *, at=None)", "__eq__": "(self, other)", "__len__": "(self)", "__repr__": "(self)"}),
+    (tables, "Setting", "(marks=None, *, throws=())", {"mark": "(self, values)", "throw": "(self, place)"}),
+    (runs, "Run", "(program, tables, setting=None)", {
+        "basis": None, "at_cut": "(self)", "rows": "(self)", "lots": "(self, own, *, ended=True)",
+        "value": "(self, number, column)", "hangs_on": "(self, number, worth)", "alike": "(self, thing)",
+        "leak": "(self, worth, lot)", "__len__": "(self)", "__repr__": "(self)"}),
+    (papers, "Paper", "(program)", {
+        "basis": None, "told": "(self)", "holds": "(self)", "__bool__": "(self)", "__repr__": "(self)"}),
+    (touches, "Split", "(program, thing, tables, setting)", {
+        "basis": None, "thing": None, "tables": None, "setting": None, "told": "(self)", "holds": "(self)",
+        "run": "(self)", "__bool__": "(self)", "__repr__": "(self)"}),
+    (touches, "Whole", "(program, thing, meets)", {
+        "basis": None, "thing": None, "meets": None, "told": "(self)", "holds": "(self)", "__bool__": "(self)",
+        "__repr__": "(self)"}),
+    (hangs, "Leak", "(program, worth, lot, tables, setting, way)", {
+        "basis": None, "worth": None, "lot": None, "tables": None, "setting": None, "way": None, "told": "(self)",
+        "holds": "(self)", "run": "(self)", "__bool__": "(self)", "__repr__": "(self)"}),
+    (hangs, "Tight", "(program, worth, lot, states)", {
+        "basis": None, "worth": None, "lot": None, "states": None, "told": "(self)", "holds": "(self)",
+        "__bool__": "(self)", "__repr__": "(self)"}),
 )
 
 
@@ -67,6 +109,20 @@ class InterfaceTest(unittest.TestCase):
                 function = getattr(module, name)
                 self.assertEqual(function.__module__, module.__name__)
                 self.assertEqual(str(inspect.signature(function)), parameters)
+
+    def test_classes(self):
+        for module, name, parameters, members in CLASSES:
+            kind = getattr(module, name)
+            self.assertEqual(kind.__module__, module.__name__)
+            self.assertEqual(str(inspect.signature(kind)), parameters)
+            for member, expected in members.items():
+                with self.subTest(f"{name}.{member}"):
+                    self.assertIn(member, vars(kind))
+                    if expected is None:
+                        self.assertIsInstance(vars(kind)[member], property)
+                    else:
+                        # A static method is read off the class as it is called.
+                        self.assertEqual(str(inspect.signature(getattr(kind, member))), expected)
 
 
 class ReadmeTest(unittest.TestCase):
