@@ -114,14 +114,14 @@ def _once(step, rows, tables):
 
 def _near(step, rows, tables):
     worth, way, columns = step[1], step[2], step[3]
-    order = rows if way == "last" else list(reversed(rows))
+    order = rows if way == "last" else rows[::-1]
     nearest = {}
     found = []
     for row in order:
         key = row.values_in(columns)
         found.append(_hung(row, worth, nearest.get(key, 0)))
         nearest[key] = row.hangs[worth]
-    return found if way == "last" else list(reversed(found))
+    return found if way == "last" else found[::-1]
 
 
 def _all(step, rows, tables):

@@ -61,8 +61,8 @@ class Graph:
         at, look, other, agreed, order = state
         return at, self._numbers[look], self._numbers[other], self._follow.mask(agreed), "".join(order)
 
-    def links(self, state, kept=False):
-        """The list of the short states to which a link leads.
+    def links(self, state, kept=False, barred=()):
+        """The list of the short states to which a link leads that is by none of the barred steps.
 
         With kept True ticks of the first and the third row are only equal if they are so over the second one. Then
         rows can be made for all states of a way at once, and shortest ways are as short as without that.
@@ -70,7 +70,7 @@ class Graph:
         at, look, other, agreed, order = state
         found = []
         for index in self._mixing:
-            if index < at:
+            if index < at and index not in barred:
                 found = found + self._links_by(index, (look, other, agreed, order), kept)
         return found
 
@@ -129,7 +129,7 @@ class Graph:
 
     def sign_at(self, index, order):
         """The sign that two rows with an order have in the list of the rows ahead of a step."""
-        for step in reversed(self._program.steps[:index]):
+        for step in reversed(list(self._program.steps[:index])):
             if step[0] == "sort":
                 sign = order[self._ticks.index(step[1])]
                 if sign != "=":
@@ -202,14 +202,14 @@ class Graph:
                     return self._looks[look] + tags, self._looks[other] + more
         return None
 
-    def shortest_way(self, lot):
-        """A shortest way of short states from a start to one that crosses into a lot, or None."""
+    def shortest_way(self, lot, barred=()):
+        """A shortest way of short states from a start to one that crosses into a lot, by no barred step, or None."""
         elder = {state: None for state in self.starts()}
         level = list(elder)
         while len(level) > 0:
             found = []
             for state in level:
-                for new in self.links(state, True):
+                for new in self.links(state, True, barred):
                     if new not in elder:
                         elder[new] = state
                         found.append(new)
@@ -262,7 +262,7 @@ def _traced(elder, state):
     found = [state]
     while elder[found[-1]] is not None:
         found.append(elder[found[-1]])
-    return list(reversed(found))
+    return found[::-1]
 
 
 def doubled_looks(program):

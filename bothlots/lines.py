@@ -176,7 +176,7 @@ def _read_cut(words):
     return reader(words[2:])
 
 
-def _read_number(word):
+def read_number(word):
     """The number that a word writes, or None."""
     digits = word[1:] if word.startswith("-") else word
     if not 1 <= len(digits) <= MOST_DIGITS or not all([digit in DIGITS for digit in digits]):
@@ -189,7 +189,7 @@ def _read_number(word):
 
 def _read_numbers(words):
     """The list of the numbers that these words write, empty if one of them is none."""
-    numbers = [_read_number(word) for word in words]
+    numbers = [read_number(word) for word in words]
     return [] if None in numbers else numbers
 
 
@@ -226,7 +226,7 @@ def _read_by_columns(form, words):
 def _read_before(words):
     if len(words) != 2 or not is_column(words[0]):
         return None
-    limit = _read_number(words[1])
+    limit = read_number(words[1])
     return None if limit is None else ("cut", "before", words[0], limit)
 
 

@@ -125,13 +125,17 @@ def parts(program, columns):
         return not same and cut[2] not in columns
     if not same or cut[1] != "rounds" or fanned_side(program) is not None:
         return True
-    return _mixes(program.many, cut[2], cut[3])
+    return True in mixed_blocks(program)
 
 
-def _mixes(many, modulus, rests):
-    """Whether the copies of one row can have places in both lots, when each row has so many places in turn."""
+def mixed_blocks(program):
+    """For "rounds" the list of whether the copies of a row have places in both lots, for each block of places in turn.
+
+    Each "twice" ahead of the cut makes the blocks longer. Behind the last block of the list the first one comes again.
+    """
+    _, _, modulus, rests = program.step(program.cut_at)
+    found = []
     for k in range(modulus):
-        judged = [(many * k + more) % modulus in rests for more in range(many)]
-        if True in judged and False in judged:
-            return True
-    return False
+        judged = [(program.many * k + more) % modulus in rests for more in range(program.many)]
+        found.append(True in judged and False in judged)
+    return found

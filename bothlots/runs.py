@@ -15,14 +15,14 @@ class Run:
             raise OtherProgram()
         self._program = program
         self._own_rows = len(tables)
-        ahead = rows_at_cut(program, tables)
-        lots = lots_at(program, ahead, Setting() if setting is None else setting)
-        self._at_cut = [(row.source, lot) for row, lot in zip(ahead, lots)]
+        self._ahead = rows_at_cut(program, tables)
+        lots = lots_at(program, self._ahead, Setting() if setting is None else setting)
+        self._at_cut = [(row.source, lot) for row, lot in zip(self._ahead, lots)]
         # Behind the cut the steps see the rows of one lot alone.
         behind = program.steps[program.cut_at + 1:]
-        learn = rows_behind(behind, _rows_of(LOTS[0], ahead, lots), tables)
+        learn = rows_behind(behind, _rows_of(LOTS[0], self._ahead, lots), tables)
         self._learn = len(learn)
-        self._last = learn + rows_behind(behind, _rows_of(LOTS[1], ahead, lots), tables)
+        self._last = learn + rows_behind(behind, _rows_of(LOTS[1], self._ahead, lots), tables)
 
     @property
     def basis(self):
@@ -42,10 +42,18 @@ class Run:
 
     def lots(self, own, *, ended=True):
         """The ascending list of the lots in which a row of the main table has rows."""
-        if not is_number(own, 0, self._own_rows - 1):
-            raise UnknownRow(own)
+        self.check_own(own)
         rows = self.rows() if ended else self._at_cut
         return sorted(set([lot for source, lot in rows if source == own]))
+
+    def check_own(self, own):
+        """UnknownRow(own) for any value that is no index of a row of the main table."""
+        if not is_number(own, 0, self._own_rows - 1):
+            raise UnknownRow(own)
+
+    def values_at_cut(self, columns):
+        """The list of the pairs (own, values in some columns) of the rows at the cut, in order."""
+        return [(row.source, row.values_in(columns)) for row in self._ahead]
 
     def _check_number(self, number):
         if not is_number(number, 0, len(self._last) - 1):

@@ -96,7 +96,7 @@ class Whole(Paper):
         for item in self._meets:
             if _is_meet(item):
                 agreements.setdefault((item[0], item[1]), []).append(item[2])
-        for look, other, columns in _meetings(self._program, self._thing):
+        for look, other, columns in meetings(self._program, self._thing):
             found = agreements.get((look, other), [])
             if not any([_keeps_together(self._program, agreed, columns) for agreed in found]):
                 return False
@@ -120,7 +120,7 @@ def _keeps_together(program, agreed, columns):
     return all([column in columns for column in agreed]) and not parts(program, agreed)
 
 
-def _meetings(program, thing):
+def meetings(program, thing):
     """The list of the tuples (look, other, forced columns) of each two last looks that can be alike in a thing."""
     lasts = [look for look in last_looks(program) if not _lacks(program, look, thing)]
     found = []
@@ -142,10 +142,10 @@ def split(program, thing):
     """A right paper that tells whether a program splits a thing."""
     if not is_thing(program, thing):
         raise InvalidThing(thing)
-    meetings = _meetings(program, thing)
-    for look, other, columns in meetings:
+    found = meetings(program, thing)
+    for look, other, columns in found:
         if parts(program, columns):
             scene, places = pair_scene(program, look, other, columns)
             tables, setting = shown(program, scene, places, LOTS, lambda run: run.alike(thing) is not None)
             return Split(program, thing, tables, setting)
-    return Whole(program, thing, [(look, other, tuple(columns)) for look, other, columns in meetings])
+    return Whole(program, thing, [(look, other, tuple(columns)) for look, other, columns in found])

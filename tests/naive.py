@@ -240,15 +240,7 @@ def doubled(program):
 
 
 def splits(program, thing):
-    for one in last_looks(program):
-        for two in last_looks(program):
-            rows = [dict(zip(signs(program), look)) for look in (one, two)]
-            if any(row.get(column.split(".")[0]) == "no" for row in rows for column in thing if "." in column):
-                continue
-            columns = forced(program, one, two, thing)
-            if columns is not None and parts(program, columns):
-                return True
-    return False
+    return any(parts(program, columns) for columns in meetings(program, thing))
 
 
 def reached(program, worth):
@@ -272,6 +264,78 @@ def shortest(program, worth, lot):
         return 1
     lengths = [many for state, many in reached(program, worth).items() if crosses(program, state, lot)]
     return min(lengths, default=None)
+
+
+def meetings(program, thing):
+    """The columns in which two rows that are alike in a thing agree, for each two last looks that can be so."""
+    for one in last_looks(program):
+        for two in last_looks(program):
+            rows = [dict(zip(signs(program), look)) for look in (one, two)]
+            if not any(row.get(column.split(".")[0]) == "no" for row in rows for column in thing if "." in column):
+                columns = forced(program, one, two, thing)
+                if columns is not None:
+                    yield columns
+
+
+def settled(program, *things):
+    found = set(program.columns())
+    for thing in things:
+        for columns in meetings(program, thing):
+            found &= set(columns)
+    return sorted(found)
+
+
+def moved(program, steps):
+    staying = [step for at, step in enumerate(program.steps) if at not in steps]
+    going = [program.steps[at] for at in sorted(steps)]
+    return Program(program.main, staying + going, sides=program.sides, unique=program.unique)
+
+
+def least_moves(program, worth, lots):
+    """All sets of steps of a worth that are enough for these lots, less those with a smaller part that is enough."""
+    steps = [at for at, step in enumerate(program.steps[:program.cut_at]) if step[0] in ("near", "all") and step[1] == worth]
+    found = []
+    for many in range(len(steps) + 1):
+        for chosen in itertools.combinations(steps, many):
+            if not any(set(least) <= set(chosen) for least in found):
+                if all(shortest(moved(program, chosen), worth, lot) is None for lot in lots):
+                    found.append(chosen)
+    return found
+
+
+def movers(run_of, tables, longer, place):
+    """The rows of the main table that get a lot at the cut by a newcomer at a place, by the runs of both tables."""
+    before, behind = run_of(tables).at_cut(), run_of(longer).at_cut()
+    found = []
+    for own in range(len(tables)):
+        elder = {lot for source, lot in before if source == own}
+        newer = {lot for source, lot in behind if source == own + (own >= place)}
+        if newer - elder:
+            found.append(own)
+    return found
+
+
+def groups(rows, alike):
+    """The parting of some rows by what two of them have to do with each other."""
+    found = []
+    for row in rows:
+        if not any(row in group for group in found):
+            group = [row]
+            for member in group:
+                group += [other for other in rows if other not in group and alike(member, other)]
+            found.append(sorted(group))
+    return found
+
+
+def chain(rows, alike, one, other):
+    """The least one of the shortest lists of rows from one to the other, found by trying all lists."""
+    level = [[one]] if one in rows and other in rows else []
+    while level:
+        hits = [found for found in level if found[-1] == other]
+        if hits:
+            return min(hits)
+        level = [found + [row] for found in level for row in rows if row not in found and alike(found[-1], row)]
+    return None
 
 
 SMALL = [

@@ -6,7 +6,8 @@ import inspect
 import os
 import unittest
 
-from bothlots import chains, checks, hangs, papers, programs, rules, runs, tables, touches, words
+from bothlots import (behind, chains, checks, growth, hangs, keys, papers, programs, rules, runs, shares, tables, touches,
+                      words)
 
 ROOT = os.path.dirname(os.path.dirname(os.path.abspath(__file__)))
 PACKAGE = os.path.join(ROOT, "bothlots")
@@ -31,6 +32,14 @@ FUNCTIONS = (
     (chains, "links", "(program, worth, state)"),
     (chains, "crosses", "(program, state, lot)"),
     (hangs, "leak", "(program, worth, lot)"),
+    (growth, "grown", "(program, kind)"),
+    (shares, "span", "(program, number)"),
+    (keys, "settled", "(program, *things)"),
+    (keys, "parting", "(run, *things)"),
+    (keys, "chain", "(run, one, other, *things)"),
+    (behind, "movable", "(program)"),
+    (behind, "moved", "(program, *steps)"),
+    (behind, "least_moves", "(program, worth, *, lot=None)"),
 )
 
 # The classes of the interface by their files, with their parameters, and their methods and properties with theirs.
@@ -61,6 +70,12 @@ CLASSES = (
     (hangs, "Tight", "(program, worth, lot, states)", {
         "basis": None, "worth": None, "lot": None, "states": None, "told": "(self)", "holds": "(self)",
         "__bool__": "(self)", "__repr__": "(self)"}),
+    (growth, "Moves", "(program, growth, tables, setting, newcomer, place, own)", {
+        "basis": None, "growth": None, "tables": None, "setting": None, "newcomer": None, "place": None, "own": None,
+        "told": "(self)", "holds": "(self)", "__bool__": "(self)", "__repr__": "(self)"}),
+    (growth, "Stays", "(program, growth, reason)", {
+        "basis": None, "growth": None, "reason": None, "told": "(self)", "holds": "(self)", "__bool__": "(self)",
+        "__repr__": "(self)"}),
 )
 
 
