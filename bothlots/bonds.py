@@ -10,7 +10,7 @@ class Bonds:
     def __init__(self, marked):
         self._marked = marked
         self._holders = {}
-        for row in sorted(list(marked)):
+        for row in marked:
             for mark in marked[row]:
                 self._holders.setdefault(mark, []).append(row)
 
@@ -48,7 +48,7 @@ class Bonds:
 
     def chain(self, one, other):
         """The least one of the shortest lists from one row to another in which neighbours are alike, or None."""
-        left = self._distances(other)
+        left = self._distances(other) if other in self._marked else {}
         if one not in left:
             return None
         found = [one]

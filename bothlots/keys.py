@@ -27,8 +27,6 @@ def chain(run, one, other, *things):
     run.check_own(one)
     run.check_own(other)
     _check_things(run.basis, things)
-    if len(run.lots(one, ended=False)) == 0 or len(run.lots(other, ended=False)) == 0:
-        return None
     return _bonds(run, things).chain(one, other)
 
 

@@ -207,8 +207,10 @@ class BentTest(unittest.TestCase):
 
     def test_tables(self):
         other = Program.read("main a:name t:tick u:tick k:x/y\nkey a\nsort u\ncut throw\n")
-        for tables in (Tables(other, self.rows), Tables(self.program, []), Tables(self.program, self.rows[:1]),
-                       Tables(self.program, self.rows[::-1]), self.rows, self.program, *ODD):
+        free = Program.read("main a:name t:tick u:tick k:x/y\nsort t\ncut throw\n")
+        self.assertTrue(self.paper(program=free, tables=Tables(free, self.rows)).holds())
+        for tables in (Tables(other, self.rows), Tables(free, self.rows), Tables(self.program, []),
+                       Tables(self.program, self.rows[:1]), Tables(self.program, self.rows[::-1]), self.rows, self.program, *ODD):
             with self.subTest(tables=tables):
                 self.assertFalse(self.paper(tables=tables).holds())
 
@@ -226,6 +228,16 @@ class BentTest(unittest.TestCase):
             paper = Moves(program, "any", tables, Setting(throws=told), ("b",), 0, 0)
             self.assertEqual(paper.holds(), right, told)
             self.assertFalse(Moves(program, "any", tables, Setting(throws=told), ("b",), 1, 0).holds())
+
+    def test_lots_at_the_cut(self):
+        """Whether the rows come through the steps behind the cut does not matter."""
+        program = program_of("main a:name b:name", "cut throw", "once a")
+        tables = Tables(program, [("x", "p"), ("x", "q")])
+        # The other row is in judge without the newcomer, too, but no last row.
+        self.assertFalse(Moves(program, "any", tables, Setting(throws=[1, 1, 1]), ("z", "p"), 0, 1).holds())
+        tables = Tables(program, [("y", "p"), ("x", "q")])
+        # It comes into judge, where the newcomer takes its place among the last rows.
+        self.assertTrue(Moves(program, "any", tables, Setting(throws=[1, 0, 1]), ("x", "p"), 0, 1).holds())
 
     def test_late(self):
         """Each tick of a late newcomer has to be no less than those of the others."""
