@@ -2,10 +2,12 @@
 
 import unittest
 
-from bothlots import (behind, chains, checks, errors, growth, hangs, keys, papers, programs, rules, runs, shares, tables,
-                      touches, words)
+from bothlots import behind, chains, checks, errors, growth, hangs, keys, pages, papers, rules, shares, touches, words
+from bothlots.desk import Desk
+from bothlots.ledgers import Ledger
 from bothlots.programs import Program
 from bothlots.runs import Run
+from bothlots.shelves import Shelf
 from bothlots.tables import Setting, Tables
 
 MAIN = [("a", "name"), ("t", "tick"), ("k", ("x", "y")), ("w", "worth")]
@@ -22,6 +24,26 @@ STATE = chains.starts(PROGRAM)[0]
 TEST = ("and", ("is", "k", "x"), ("has", "s"))
 THING = ("a",)
 NEWCOMER = ("d", 0, "x")
+
+
+def shelf_of():
+    shelf = Shelf()
+    shelf.apply(("put", "a", PROGRAM.text()))
+    return shelf
+
+
+def ledger_of():
+    ledger = Ledger(("a",), ("b",))
+    for row in ({"a": "x"}, {"a": "x", "b": "y"}, {"b": "y"}, {"b": "z"}):
+        ledger.add(row)
+    return ledger
+
+
+LEDGER = ledger_of()
+SHELF = shelf_of()
+SHELF.moves("a", "end")
+DESK = Desk(shelf=SHELF)
+DESK.say("names")
 
 # Functions and classes with values for all their parameters, in the order of the interface.
 CALLS = (
@@ -57,6 +79,20 @@ CALLS = (
     (hangs.leak, {"program": PROGRAM, "worth": "w", "lot": "judge"}),
     (growth.grown, {"program": PROGRAM, "kind": "late"}),
     (shares.span, {"program": PROGRAM, "number": 7}),
+    (LEDGER.offer, {"row": {"b": "z"}}),
+    (LEDGER.row, {"number": 1}),
+    (LEDGER.side, {"number": 3}),
+    (LEDGER.group, {"number": 1}),
+    (LEDGER.chain, {"one": 2, "other": 0}),
+    (LEDGER.tally, {"lot": "learn"}),
+    (SHELF.program, {"name": "a"}),
+    (SHELF.moves, {"name": "a", "growth": "late"}),
+    (SHELF.set_limit, {"value": 9}),
+    (pages.write_page, {"shelf": SHELF}),
+    (pages.read_page, {"text": pages.write_page(SHELF)}),
+    (pages.columns_page, {"tables": TABLES}),
+    (Desk(shelf=SHELF).say, {"line": "names"}),
+    (Desk(shelf=SHELF), {"line": "steps a"}),
 )
 
 # Those with parameters behind `*`: the ones ahead of it by order, the others by name.
@@ -66,6 +102,10 @@ MORE = (
     (TABLES.with_row, {"row": NEWCOMER}, {"at": 1}),
     (RUN.lots, {"own": 1}, {"ended": False}),
     (behind.least_moves, {"program": PROGRAM, "worth": "w"}, {"lot": "learn"}),
+    (lambda *given, **named: ledger_of().add(*given, **named), {"row": {"c": "x"}}, {"side": "judge"}),
+    (SHELF.leaks, {"name": "a", "worth": "w"}, {"lot": "judge"}),
+    (Shelf, {}, {"limit": 3}),
+    (lambda *given, **named: Desk(*given, **named).shelf(), {}, {"shelf": SHELF}),
 )
 
 # The papers, whose parts are told by properties of the same names.
@@ -142,6 +182,9 @@ class NamesTest(unittest.TestCase):
         self.assertEqual(keys.chain(RUN, 0, 1, ("a",), ("s.h",)), [0, 1])
         self.assertEqual(behind.moved(PROGRAM, 2).steps[-1], STEPS[2])
         self.assertEqual(len(TABLES.with_rows(NEWCOMER, ("e", 1, "x"))), 6)
+        self.assertEqual(Ledger(("a",), ("b", "c")).things(), [("a",), ("b", "c")])
+        self.assertFalse(SHELF.splits("a", "a", "s.h") is None)
+        self.assertEqual(list(LEDGER.walk(lot="judge")), list(LEDGER.walk("judge")))
 
     def test_defaults(self):
         self.assertEqual(Program(MAIN, STEPS[1:2] + STEPS[3:]).sides, ())
@@ -152,6 +195,9 @@ class NamesTest(unittest.TestCase):
         self.assertEqual(RUN.lots(2), RUN.lots(2, ended=True))
         self.assertEqual((Setting().mark(("a",)), Setting().throw(0)), (0, 0))
         self.assertEqual(behind.least_moves(PROGRAM, "w"), behind.least_moves(PROGRAM, "w", lot=None))
+        self.assertEqual((Shelf().limit, Desk().shelf(), ledger_of().add({}), ledger_of().add({}, side=None)),
+                         (8, Shelf(), "judge", "judge"))
+        self.assertEqual(SHELF.leaks("a", "w"), SHELF.leaks("a", "w", lot="learn"))
 
 
 class NewTest(unittest.TestCase):
@@ -168,7 +214,9 @@ class NewTest(unittest.TestCase):
             lambda: chains.links(PROGRAM, "w", STATE), lambda: PROGRAM.columns(), lambda: PROGRAM.columns_of("name"),
             lambda: keys.settled(PROGRAM, ("a",)), lambda: keys.parting(RUN, ("a",)), lambda: keys.parting(RUN, ("a",))[0],
             lambda: keys.chain(RUN, 0, 2, ("a",)), lambda: behind.movable(PROGRAM), lambda: behind.least_moves(PROGRAM, "w"),
-            lambda: rules.forced(PROGRAM, LOOK, LOOK, ["a"])]
+            lambda: rules.forced(PROGRAM, LOOK, LOOK, ["a"]), lambda: LEDGER.things(), lambda: LEDGER.group(0),
+            lambda: LEDGER.chain(0, 2), lambda: SHELF.names(), lambda: SHELF.kept(), lambda: pages.columns_page(TABLES),
+            lambda: DESK.log()]
         for told in listed:
             found = told()
             self.assertEqual(type(found), list)

@@ -6,8 +6,8 @@ import inspect
 import os
 import unittest
 
-from bothlots import (behind, chains, checks, growth, hangs, keys, papers, programs, rules, runs, shares, tables, touches,
-                      words)
+from bothlots import (behind, chains, checks, desk, growth, hangs, keys, ledgers, pages, papers, programs, rules, runs,
+                      shares, shelves, tables, touches, words)
 
 ROOT = os.path.dirname(os.path.dirname(os.path.abspath(__file__)))
 PACKAGE = os.path.join(ROOT, "bothlots")
@@ -40,6 +40,9 @@ FUNCTIONS = (
     (behind, "movable", "(program)"),
     (behind, "moved", "(program, *steps)"),
     (behind, "least_moves", "(program, worth, *, lot=None)"),
+    (pages, "write_page", "(shelf)"),
+    (pages, "read_page", "(text)"),
+    (pages, "columns_page", "(tables)"),
 )
 
 # The classes of the interface by their files, with their parameters, and their methods and properties with theirs.
@@ -75,6 +78,19 @@ CLASSES = (
         "told": "(self)", "holds": "(self)", "__bool__": "(self)", "__repr__": "(self)"}),
     (growth, "Stays", "(program, growth, reason)", {
         "basis": None, "growth": None, "reason": None, "told": "(self)", "holds": "(self)", "__bool__": "(self)",
+        "__repr__": "(self)"}),
+    (ledgers, "Ledger", "(*things)", {
+        "offer": "(self, row)", "add": "(self, row, *, side=None)", "things": "(self)", "row": "(self, number)",
+        "side": "(self, number)", "group": "(self, number)", "chain": "(self, one, other)", "tally": "(self, lot)",
+        "walk": "(self, lot)", "undo": "(self)", "redo": "(self)", "history": "(self)", "twin": "(self)",
+        "__getitem__": "(self, number)", "__eq__": "(self, other)", "__len__": "(self)", "__repr__": "(self)"}),
+    (shelves, "Shelf", "(*, limit=8)", {
+        "limit": None, "set_limit": "(self, value)", "apply": "(self, *commands)", "undo": "(self)", "redo": "(self)",
+        "history": "(self)", "busy": None, "names": "(self)", "program": "(self, name)", "splits": "(self, name, *thing)",
+        "leaks": "(self, name, worth, *, lot='learn')", "moves": "(self, name, growth)", "kept": "(self)", "computed": None,
+        "twin": "(self)", "__contains__": "(self, name)", "__eq__": "(self, other)", "__len__": "(self)", "__repr__": "(self)"}),
+    (desk, "Desk", "(*, shelf=None)", {
+        "say": "(self, line)", "__call__": "(self, line)", "shelf": "(self)", "log": "(self)", "__len__": "(self)",
         "__repr__": "(self)"}),
 )
 

@@ -7,13 +7,19 @@ import unittest
 import naive
 from bothlots.behind import least_moves, movable, moved
 from bothlots.chains import links, starts
-from bothlots.errors import InvalidRow
+from bothlots.desk import Desk
+from bothlots.errors import InvalidRow, LotsError, Missing, NothingLeft
 from bothlots.growth import grown
 from bothlots.hangs import leak
+from bothlots.keys import chain, parting
+from bothlots.ledgers import Ledger
+from bothlots.pages import read_page, write_page
 from bothlots.programs import Program
 from bothlots.runs import Run
+from bothlots.shelves import Shelf
 from bothlots.tables import Setting, Tables
-from samples import drawn_tables
+from bothlots.touches import split
+from samples import drawn_program, drawn_tables
 
 LOTS = ("learn", "judge")
 
@@ -175,6 +181,129 @@ class MovedTest(unittest.TestCase):
                     for number, (own, lot) in enumerate(run.rows()):
                         in_lot = {source for source, its_lot in run.at_cut() if its_lot == lot}
                         self.assertLessEqual(set(run.hangs_on(number, worth)), in_lot)
+
+
+class ManyWaysTest(unittest.TestCase):
+    """The same by functions, by commands of a shelf, by lines of a desk, by texts and by pages."""
+
+    def test_moved_steps(self):
+        for seed in range(60):
+            chance = random.Random(seed)
+            program = drawn_program(chance)
+            steps = movable(program)
+            chosen = sorted(chance.sample(steps, chance.randint(0, len(steps))))
+            at_once = moved(program, *chosen)
+            one_by_one = program
+            # The foremost one goes first, and each one that goes shifts those behind it.
+            places = [at - gone for gone, at in enumerate(chosen)]
+            for at in places:
+                one_by_one = moved(one_by_one, at)
+            shelf, desk = Shelf(), Desk()
+            for each in (shelf, desk.shelf()):
+                each.apply(*[("put", name, program.text()) for name in "abc"])
+            shelf.apply(("behind", "a", tuple(chosen[::-1])))
+            shelf.apply(*[("behind", "b", (at,)) for at in places])
+            for at in places:
+                shelf.apply(("behind", "c", (at,)))
+                self.assertEqual(desk(f"behind b {at}"), "done")
+            if chosen:
+                self.assertEqual(desk("behind a " + " ".join(map(str, chosen))), "done")
+            found = [one_by_one, *map(shelf.program, "abc"), *map(desk.shelf().program, "ab" if chosen else "abc")]
+            found += [Program.read(at_once.text()), naive.moved(program, chosen)]
+            found += [read_page(write_page(each)).program("b") for each in (shelf, desk.shelf())]
+            with self.subTest(seed=seed):
+                self.assertEqual(found, [at_once] * len(found))
+
+    def test_answers(self):
+        for seed in range(60):
+            chance = random.Random(seed)
+            program = drawn_program(chance)
+            (worth,) = program.columns_of("worth")
+            desk = Desk()
+            shelf = desk.shelf()
+            shelf.apply(("put", "a", program.text()))
+            other = read_page(write_page(shelf))
+            thing = tuple(chance.sample(program.columns_of("name"), 1))
+            with self.subTest(seed=seed):
+                told = bool(split(program, thing))
+                self.assertEqual([shelf.splits("a", *thing), other.splits("a", *thing), desk(f"split a {thing[0]}")], [told, told, yes(told)])
+                for lot in LOTS:
+                    told = bool(leak(program, worth, lot))
+                    self.assertEqual([shelf.leaks("a", worth, lot=lot), other.leaks("a", worth, lot=lot), desk(f"leak a {worth} {lot}")],
+                                     [told, told, yes(told)])
+                for growth in ("end", "late", "any"):
+                    told = bool(grown(program, growth))
+                    self.assertEqual([shelf.moves("a", growth), other.moves("a", growth), desk(f"moves a {growth}")],
+                                     [told, told, yes(told)])
+                self.assertEqual((shelf.kept(), shelf.computed, other.computed), (other.kept(), 6, 6))
+
+    def test_enough_moves_are_enough_on_a_shelf(self):
+        for program in naive.programs():
+            for worth in program.columns_of("worth"):
+                for least in least_moves(program, worth):
+                    shelf = Shelf()
+                    shelf.apply(("put", "a", program.text()), ("behind", "a", least))
+                    self.assertEqual([shelf.leaks("a", worth, lot=lot) for lot in LOTS], [False, False])
+
+    def test_a_shelf_of_a_page_goes_on(self):
+        """The one that wrote it and the one that was read do the same from there on."""
+        texts = [program.text() for program in naive.programs()]
+        for seed in range(20):
+            chance = random.Random(seed)
+            shelf = Shelf(limit=12)
+            shelf.apply(*[("put", name, chance.choice(texts)) for name in "abcde"])
+            other = read_page(write_page(shelf))
+            self.assertEqual((shelf == other, other.history(), other.limit), (True, (0, 0), 12))
+            for _ in range(30):
+                name, fresh = chance.choice("abcdef"), chance.choice("abcdefG")
+                command = chance.choice([("put", name, chance.choice(texts)), ("drop", name), ("rename", name, fresh),
+                                         ("behind", name, (chance.randint(0, 4),)), ("behind", name, 1)])
+                self.assertEqual(outcome(shelf.apply, command), outcome(other.apply, command))
+                self.assertEqual(write_page(shelf), write_page(other))
+            self.assertEqual(other.history()[0] + 1, shelf.history()[0])
+            while other.history()[0]:
+                shelf.undo()
+                other.undo()
+                self.assertEqual(write_page(shelf), write_page(other))
+
+
+def yes(answer):
+    return "yes" if answer else "no"
+
+
+def outcome(call, *given):
+    """What a call returns, or its error with what it tells."""
+    try:
+        return call(*given)
+    except (LotsError, Missing, NothingLeft) as error:
+        return error.code, vars(error)
+
+
+class LedgerTest(unittest.TestCase):
+    def test_runs_and_ledgers(self):
+        """The parting and the chains of a run are the groups and chains of a ledger that deals the same rows."""
+        for seed in range(60):
+            chance = random.Random(seed)
+            program = drawn_program(chance)
+            # A copy would be a row more in a ledger, and a row of the main table may be dropped.
+            steps = [step for step in program.steps[:program.cut_at] if step[0] not in ("twice", "fan")]
+            program = Program(program.main, [*steps, ("cut", "throw")], sides=program.sides, unique=program.unique)
+            run = Run(program, *drawn_tables(program, chance))
+            names = program.columns_of("name")
+            fields = dict(zip(names, "abcdefghij"))
+            things = [tuple(chance.sample(names, min(len(names), chance.randint(1, 3)))) for _ in range(chance.randint(1, 4))]
+            ledger = Ledger(*[tuple(fields[name] for name in thing) for thing in things])
+            owns = []
+            for own, values in sorted(run.values_at_cut(names)):
+                owns.append(own)
+                ledger.add({fields[name]: value for name, value in zip(names, values) if value is not None}, side="learn")
+            groups = sorted({tuple(owns[number] for number in ledger.group(at)) for at in range(len(ledger))})
+            with self.subTest(seed=seed):
+                self.assertEqual(parting(run, *things), [list(group) for group in groups])
+                for one, other in itertools.product(range(len(owns)), repeat=2):
+                    found = ledger.chain(one, other)
+                    expected = None if found is None else [owns[number] for number in found]
+                    self.assertEqual(chain(run, owns[one], owns[other], *things), expected)
 
 
 class KeysTest(unittest.TestCase):
